@@ -1,0 +1,1 @@
+"""Accordions: nested menus with at most one open section in each group."""

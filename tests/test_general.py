@@ -1,0 +1,314 @@
+"""Points 3, 4 and 5 and the interface: what holds for all functions."""
+
+import inspect
+import unittest
+from copy import deepcopy
+from enum import IntEnum
+
+from accordions import clicks, plans, states
+from accordions.errors import (AccordionsError, HiddenError, InvalidClicksError, InvalidNumberError, InvalidPlanError,
+                               InvalidSectionError, InvalidStateError)
+from tests.examples import CHAIN, F, G, LARGE_PLANS, O, P
+
+NO_PLAN, NO_STATE, NO_SECTION = [(1, O)], [9] * 11, 11
+
+# The interface: file, function and parameters.
+INTERFACE = (
+    (plans, "is_plan", ["value"]), (plans, "parent_of", ["plan", "section"]), (plans, "group_of", ["plan", "section"]),
+    (plans, "around", ["plan", "section"]), (plans, "sections_within", ["plan", "section"]),
+    (plans, "plan_without", ["plan", "section"]),
+    (states, "is_state", ["plan", "value"]), (states, "first_state", ["plan"]), (states, "nth_state", ["plan", "index"]),
+    (states, "count_states", ["plan"]), (states, "state_rank", ["plan", "state"]),
+    (states, "shown_sections", ["plan", "state"]), (states, "visible_headers", ["plan", "state"]),
+    (clicks, "after_clicks", ["plan", "state", "headers"]), (clicks, "first_hidden", ["plan", "state", "clicks"]),
+    (clicks, "back_click", ["plan", "state", "section"]), (clicks, "steps", ["plan", "state", "clicks"]),
+    (clicks, "clicks_between", ["plan", "state", "other"]),
+)
+
+# Valid arguments by name, and the result.
+CALLS = (
+    (plans.is_plan, {"value": P}, True),
+    (plans.parent_of, {"plan": P, "section": 9}, 7),
+    (plans.group_of, {"plan": P, "section": 7}, [8, 9, 10]),
+    (plans.around, {"plan": P, "section": 9}, [0, 7]),
+    (plans.sections_within, {"plan": P, "section": 4}, [5, 6]),
+    (plans.plan_without, {"plan": P, "section": 4}, P[:4] + P[7:]),
+    (states.is_state, {"plan": P, "value": G}, True),
+    (states.first_state, {"plan": P}, F),
+    (states.count_states, {"plan": P}, 72),
+    (states.nth_state, {"plan": P, "index": 35}, G),
+    (states.state_rank, {"plan": P, "state": G}, 35),
+    (states.shown_sections, {"plan": P, "state": G}, [0, 1, 3]),
+    (states.visible_headers, {"plan": P, "state": G}, [1, 2, 3, 4, 7]),
+    (clicks.after_clicks, {"plan": P, "state": G}, G),
+    (clicks.first_hidden, {"plan": P, "state": F, "clicks": [7, 10]}, 1),
+    (clicks.back_click, {"plan": P, "state": G, "section": 7}, 1),
+    (clicks.steps, {"plan": P, "state": F, "clicks": [1]}, [F, [1] + F[1:]]),
+    (clicks.clicks_between, {"plan": P, "state": F, "other": [1] + F[1:]}, [1]),
+)
+
+
+def called(function, *arguments, **named):
+    """The result of a call, as a list if the function yields."""
+    result = function(*arguments, **named)
+    return list(result) if function == clicks.steps else result
+
+
+def exact(value):
+    """A value with the kinds of all its parts, so that True is not 1."""
+    if type(value) in (list, tuple):
+        return type(value), [exact(item) for item in value]
+    return type(value), value
+
+
+class InterfaceTest(unittest.TestCase):
+    def test_names_and_parameters(self):
+        for module, name, parameters in INTERFACE:
+            function = getattr(module, name)
+            found = inspect.signature(function).parameters
+            self.assertEqual(list(found), parameters)
+            self.assertEqual([one.default for one in found.values()], [inspect.Parameter.empty] * len(found))
+            self.assertTrue(inspect.isfunction(function))
+
+    def test_defined_in_the_file_that_lists_it(self):
+        for module, name, _ in INTERFACE:
+            self.assertEqual(getattr(module, name).__module__, module.__name__)
+
+    def test_headers_stand_behind_a_star(self):
+        kinds = [one.kind for one in inspect.signature(clicks.after_clicks).parameters.values()]
+        self.assertEqual(kinds[2], inspect.Parameter.VAR_POSITIONAL)
+
+    def test_steps_yields(self):
+        self.assertTrue(inspect.isgeneratorfunction(clicks.steps))
+
+
+class ArgumentsTest(unittest.TestCase):
+    def test_by_name_and_by_position(self):
+        self.assertEqual({function.__name__ for function, _, _ in CALLS}, {name for _, name, _ in INTERFACE})
+        for function, named, result in CALLS:
+            self.assertEqual(exact(called(function, **named)), exact(result), function)
+            self.assertEqual(exact(called(function, *named.values())), exact(result), function)
+            backwards = dict(list(named.items())[::-1])
+            self.assertEqual(exact(called(function, **backwards)), exact(result), function)
+
+    def test_arguments_are_not_changed(self):
+        for function, named, _ in CALLS:
+            before = deepcopy(named)
+            called(function, **named)
+            self.assertEqual(named, before)
+
+    def test_arguments_are_not_changed_by_a_call_that_raises(self):
+        for function, named, _ in CALLS:
+            for name in named:
+                wrong = deepcopy(named)
+                wrong[name] = [[object], None]
+                before = list(wrong[name])
+                rest = deepcopy({key: value for key, value in wrong.items() if key != name})
+                try:
+                    called(function, **wrong)
+                except AccordionsError:
+                    pass
+                self.assertEqual(wrong[name], before)
+                self.assertEqual({key: value for key, value in wrong.items() if key != name}, rest)
+        state, way = list(F), [7, 10]
+        with self.assertRaises(HiddenError):
+            clicks.after_clicks(P, state, *way)
+        with self.assertRaises(HiddenError):
+            list(clicks.steps(P, state, way))
+        self.assertEqual([state, way], [F, [7, 10]])
+
+    def test_equal_arguments_give_equal_results(self):
+        for function, named, result in CALLS:
+            for _ in range(3):
+                self.assertEqual(called(function, **deepcopy(named)), result)
+
+    def test_plan_changed_in_place_between_calls(self):
+        plan, state = [(0, O), (1, O), (1, O)], [1, 0, 0]
+        self.assertEqual([plans.group_of(plan, 0), states.count_states(plan)], [[1, 2], 3])
+        self.assertEqual(states.visible_headers(plan, state), [1, 2])
+        plan[2] = (2, "tab")
+        self.assertEqual([plans.group_of(plan, 0), states.count_states(plan)], [[1], 4])
+        self.assertEqual([plans.parent_of(plan, 2), plans.around(plan, 2)], [1, [0, 1]])
+        self.assertEqual(states.visible_headers(plan, state), [1, 2])
+        plan[0] = (0, "step")
+        self.assertEqual([states.count_states(plan), states.first_state(plan)], [2, [1, 0, 0]])
+        plan[0] = (1, "step")
+        self.assertIs(plans.is_plan(plan), False)
+
+    def test_state_and_clicks_changed_in_place_between_calls(self):
+        state, way = list(F), [7]
+        self.assertEqual([states.state_rank(P, state), clicks.first_hidden(P, state, way)], [0, None])
+        state[:] = G
+        way.append(8)
+        self.assertEqual([states.state_rank(P, state), clicks.first_hidden(P, state, way)], [35, 1])
+        self.assertEqual(states.shown_sections(P, state), [0, 1, 3])
+        way[:] = [2]
+        self.assertEqual(list(clicks.steps(P, state, way)), [G, [1, 2] + G[2:]])
+        state[0] = 2
+        self.assertIs(states.is_state(P, state), False)
+
+
+class ResultsTest(unittest.TestCase):
+    def test_results_are_new_lists(self):
+        for function, named, result in CALLS:
+            if isinstance(result, list):
+                first = called(function, **named)
+                self.assertFalse([name for name in named if named[name] is first])
+                first.clear()
+                self.assertEqual(called(function, **named), result)
+
+    def test_unchanged_state_is_a_new_list(self):
+        state = list(F)
+        for result in (clicks.after_clicks(P, state), next(clicks.steps(P, state, []))):
+            self.assertEqual(result, state)
+            self.assertIsNot(result, state)
+        tabs = [(0, "tab"), (1, O)]
+        here = [1, 0]
+        self.assertIsNot(clicks.after_clicks(tabs, here, 1), here)
+
+    def test_yielded_lists_are_new_each(self):
+        rows = list(clicks.steps([(0, "tab"), (1, O)], [1, 0], [1, 1]))
+        self.assertEqual(len({id(row) for row in rows}), 3)
+
+    def test_changed_yielded_list_does_not_matter(self):
+        found = []
+        for row in clicks.steps(P, F, [7, 9, 9]):
+            found.append(list(row))
+            row.clear()
+        self.assertEqual([row[:8:7] for row in found], [[0, 8], [7, 8], [7, 9], [7, 9]])
+
+    def test_arguments_changed_while_steps_yields(self):
+        plan, state, way = list(P), list(F), [7, 9]
+        going = clicks.steps(plan, state, way)
+        first = next(going)
+        plan.clear()
+        state.clear()
+        way.clear()
+        self.assertEqual([first] + list(going), [F, [7] + F[1:], [7] + F[1:7] + [9, 0, 0, 0]])
+
+    def test_kinds_of_results(self):
+        for state in (F, G):
+            lists = [states.shown_sections(P, state), states.visible_headers(P, state), states.nth_state(P, 3),
+                     clicks.after_clicks(P, state, 7), clicks.clicks_between(P, state, state)]
+            for row in lists:
+                self.assertIs(type(row), list)
+                self.assertEqual([type(item) for item in row], [int] * len(row))
+        for row in plans.plan_without(P, 1):
+            self.assertIs(type(row), tuple)
+
+
+class IntegersTest(unittest.TestCase):
+    def test_bools_are_none(self):
+        two = [(0, "tab"), (1, "tab")]
+        for call, error in (
+                (lambda: plans.parent_of(two, True), InvalidSectionError),
+                (lambda: plans.plan_without(two, True), InvalidSectionError),
+                (lambda: plans.group_of(two, False), InvalidSectionError),
+                (lambda: states.nth_state(two, False), InvalidNumberError),
+                (lambda: states.state_rank(two, [True, 0]), InvalidStateError),
+                (lambda: states.state_rank(two, [1, False]), InvalidStateError),
+                (lambda: clicks.after_clicks(two, [1, 0], True), InvalidClicksError),
+                (lambda: clicks.first_hidden(two, [1, 0], [True]), InvalidClicksError),
+                (lambda: clicks.back_click(two, [1, 0], True), InvalidSectionError),
+                (lambda: clicks.clicks_between(two, [1, 0], [True, 0]), InvalidStateError),
+                (lambda: plans.parent_of([(False, O)], 0), InvalidPlanError),
+                (lambda: plans.parent_of([(0, O), (True, O)], 0), InvalidPlanError)):
+            with self.assertRaises(error):
+                call()
+
+    def test_any_int_that_is_no_bool(self):
+        class Place(IntEnum):
+            PAGE = 0
+            FIRST = 1
+
+        plan = [(Place.PAGE, O), (Place.FIRST, O)]
+        self.assertIs(plans.is_plan(plan), True)
+        self.assertEqual(plans.parent_of(plan, Place.FIRST), 0)
+        self.assertEqual(states.state_rank(plan, [Place.FIRST, 0]), 1)
+
+    def test_large_integers(self):
+        huge = 10 ** 31 - 1
+        for number in (huge, -huge):
+            self.assertIs(plans.is_plan([(0, O), (number, O)]), False)
+            self.assertIs(states.is_state(P, [number] + F[1:]), False)
+            with self.assertRaises(InvalidSectionError):
+                plans.around(P, number)
+            with self.assertRaises(InvalidClicksError):
+                clicks.first_hidden(P, F, [number])
+        with self.assertRaises(InvalidNumberError):
+            states.nth_state(P, 10 ** 80 - 1)
+
+
+class LimitsTest(unittest.TestCase):
+    def test_forty_sections(self):
+        for plan in LARGE_PLANS:
+            last = states.nth_state(plan, states.count_states(plan) - 1)
+            for section in range(40):
+                self.assertEqual(plans.around(plan, section)[:1], [0][:section])
+            for section in states.visible_headers(plan, last):
+                self.assertEqual(len(clicks.after_clicks(plan, last, section)), 40)
+        self.assertEqual(plans.around(CHAIN, 39), list(range(39)))
+
+    def test_more_than_twenty_headers(self):
+        self.assertEqual(clicks.after_clicks(P, F, *([1] * 21)), [1] + F[1:])
+        self.assertEqual(clicks.after_clicks(P, F, *([1] * 300)), F)
+
+
+class OrderTest(unittest.TestCase):
+    """If several arguments are invalid, the first one tells the error."""
+
+    def test_plan_before_section(self):
+        functions = [plans.parent_of, plans.group_of, plans.around, plans.sections_within, plans.plan_without]
+        for function in functions:
+            for section in (NO_SECTION, 0, None):
+                with self.assertRaises(InvalidPlanError):
+                    function(NO_PLAN, section)
+
+    def test_plan_before_all_others(self):
+        for call in (lambda: states.is_state(NO_PLAN, NO_STATE), lambda: states.nth_state(NO_PLAN, -1),
+                     lambda: states.state_rank(NO_PLAN, NO_STATE), lambda: states.shown_sections(NO_PLAN, NO_STATE),
+                     lambda: states.visible_headers(NO_PLAN, NO_STATE),
+                     lambda: clicks.after_clicks(NO_PLAN, NO_STATE, 0),
+                     lambda: clicks.first_hidden(NO_PLAN, NO_STATE, [0]),
+                     lambda: list(clicks.steps(NO_PLAN, NO_STATE, [0])),
+                     lambda: clicks.back_click(NO_PLAN, NO_STATE, 0),
+                     lambda: clicks.clicks_between(NO_PLAN, NO_STATE, NO_STATE)):
+            with self.assertRaises(InvalidPlanError):
+                call()
+
+    def test_state_before_clicks_and_section(self):
+        for call in (lambda: clicks.after_clicks(P, NO_STATE, 0), lambda: clicks.first_hidden(P, NO_STATE, [0]),
+                     lambda: list(clicks.steps(P, NO_STATE, [0])), lambda: clicks.back_click(P, NO_STATE, 0),
+                     lambda: clicks.back_click(P, NO_STATE, NO_SECTION),
+                     lambda: clicks.clicks_between(P, NO_STATE, NO_STATE)):
+            with self.assertRaises(InvalidStateError):
+                call()
+
+    def test_click_list_before_hidden_headers(self):
+        for call in (lambda: clicks.after_clicks(P, F, 2, 0), lambda: clicks.first_hidden(P, F, [2, NO_SECTION]),
+                     lambda: list(clicks.steps(P, F, [2, True]))):
+            with self.assertRaises(InvalidClicksError):
+                call()
+
+    def test_section_before_hidden_header(self):
+        for section in (0, NO_SECTION, -2, True):
+            with self.assertRaises(InvalidSectionError):
+                clicks.back_click(P, F, section)
+        with self.assertRaises(HiddenError):
+            clicks.back_click(P, F, 2)
+
+    def test_each_error_has_exactly_one_class(self):
+        for call, error in ((lambda: plans.parent_of(NO_PLAN, 0), InvalidPlanError),
+                            (lambda: states.state_rank(P, NO_STATE), InvalidStateError),
+                            (lambda: plans.parent_of(P, NO_SECTION), InvalidSectionError),
+                            (lambda: states.nth_state(P, 72), InvalidNumberError),
+                            (lambda: clicks.first_hidden(P, F, [0]), InvalidClicksError),
+                            (lambda: clicks.after_clicks(P, F, 2), HiddenError)):
+            with self.assertRaises(ValueError) as caught:
+                call()
+            self.assertIs(type(caught.exception), error)
+            self.assertIsInstance(caught.exception, AccordionsError)
+
+
+if __name__ == "__main__":
+    unittest.main()
