@@ -1,6 +1,6 @@
 """Plans: the sections of a menu from top to bottom, and how they are nested."""
 
-from accordions.errors import InvalidPlanError, InvalidSectionError
+from accordions.errors import InvalidPlanError, InvalidSectionError, InvalidSectionsError
 from accordions.integers import is_whole_number
 
 KINDS = ("one", "tab", "step")
@@ -53,6 +53,14 @@ def check_below_page(plan, section):
     check_section(plan, section)
     if section == 0:
         raise InvalidSectionError("the page cannot stand here")
+
+
+def check_sections(plan, sections):
+    """Raise an error if this is not an ascending list of different sections of the plan."""
+    if type(sections) != list or not all([is_section(plan, section) for section in sections]):
+        raise InvalidSectionsError("this is not a list of sections of the plan")
+    if not all([before < section for before, section in zip(sections, sections[1:])]):
+        raise InvalidSectionsError("these sections are not ascending")
 
 
 def all_parents(plan):

@@ -1,6 +1,7 @@
 """The definitions of the document, word by word and slowly, to compare the program with."""
 
 from itertools import product
+from math import comb, factorial
 
 
 def parent(plan, section):
@@ -77,3 +78,95 @@ def run(plan, state, clicks):
             return rows, turn
         rows.append(after_click(plan, rows[-1], section))
     return rows, None
+
+
+def needs_work(plan, state, goal, section):
+    if state[section] != goal[section]:
+        return True
+    return any(needs_work(plan, state, goal, inner) for inner in group(plan, section))
+
+
+def working_part(plan, state, goal, section):
+    """The sections of the group of this section that need work."""
+    return [inner for inner in group(plan, section) if needs_work(plan, state, goal, inner)]
+
+
+def walk(plan, state, goal, section):
+    a, b = state[section], goal[section]
+    work = working_part(plan, state, goal, section)
+    beside = group(plan, section)
+    if not beside:
+        return 0
+    if plan[section][1] != "step":
+        if a == b and not [inner for inner in work if inner != a]:
+            return 0
+        return len([inner for inner in work if inner not in (a, b)]) + 1
+    p, q = beside.index(a), beside.index(b)
+    places = [p, q] + [beside.index(inner) for inner in work]
+    low, high = min(places), max(places)
+    return (high - low) + min((p - low) + (high - q), (q - low) + (high - p))
+
+
+def clicks_within(plan, state, goal, section):
+    """The sum of the walks of the group of a section and of all groups within it."""
+    inner = [other for other in range(len(plan)) if section in around(plan, other)]
+    return sum(walk(plan, state, goal, other) for other in [section] + inner)
+
+
+def distance(plan, state, goal):
+    return sum(walk(plan, state, goal, section) for section in range(len(plan)))
+
+
+def ways_of_length(start, length, size):
+    """All ways from place to place with so many steps in a group of this size."""
+    ways = [[start]]
+    for _ in range(length):
+        ways = [way + [place] for way in ways for place in (way[-1] - 1, way[-1] + 1) if 0 <= place < size]
+    return ways
+
+
+def value_of_way(way, amounts):
+    """The product of binomial coefficients for a dict of places and the clicks within them."""
+    value = 1
+    for place, clicks in amounts.items():
+        value *= comb(clicks + way.count(place) - 1, clicks)
+    return value
+
+
+def factor(plan, state, goal, section):
+    """The factor of a group in the number of shortest click lists."""
+    a, b = state[section], goal[section]
+    work = working_part(plan, state, goal, section)
+    beside = group(plan, section)
+    if not beside:
+        return 1
+    if plan[section][1] != "step":
+        many = factorial(len([inner for inner in work if inner not in (a, b)]))
+        if a == b and a in work and len(work) > 1:
+            many *= clicks_within(plan, state, goal, a) + 1
+        return many
+    amounts = {beside.index(inner): clicks_within(plan, state, goal, inner) for inner in work}
+    ways = ways_of_length(beside.index(a), walk(plan, state, goal, section), len(beside))
+    ways = [way for way in ways if way[-1] == beside.index(b) and set(amounts) <= set(way)]
+    return sum(value_of_way(way, amounts) for way in ways)
+
+
+def wanted_part(plan, sections, section):
+    """The sections of the group of this section that are wanted or have a wanted one within them."""
+    return [inner for inner in group(plan, section)
+            if any(inner == wanted or inner in around(plan, wanted) for wanted in sections)]
+
+
+def tour_length(plan, state, sections):
+    total = 0
+    for section in range(len(plan)):
+        wanted = wanted_part(plan, sections, section)
+        beside = group(plan, section)
+        if wanted and plan[section][1] != "step":
+            total += len([inner for inner in wanted if inner != state[section]])
+        elif wanted:
+            p = beside.index(state[section])
+            places = [p] + [beside.index(inner) for inner in wanted]
+            low, high = min(places), max(places)
+            total += (high - low) + min(p - low, high - p)
+    return total

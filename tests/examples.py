@@ -16,6 +16,9 @@ ONES = [(0, O)] + [(1, O)] * 39
 # 13 sections with two sections each below the page: 40 in all.
 MIXED = [(0, "tab")] + [(1, KINDS[k // 3 % 3]) if k % 3 == 0 else (2, "step") for k in range(39)]
 LARGE_PLANS = (CHAIN, STEPS, TABS, ONES, MIXED)
+# Chains of one kind, and a group of 20 sections of which 19 have one section each.
+CHAINS = tuple([(depth, kind) for depth in range(40)] for kind in KINDS)
+PAIRS = tuple([(0, kind)] + [(1 + k % 2, O) for k in range(39)] for kind in KINDS)
 
 
 class SubList(list):
@@ -75,6 +78,14 @@ def small_plans(most):
         for depths in depth_rows(size):
             for kinds in product(KINDS, repeat=size):
                 yield list(zip(depths, kinds))
+
+
+def small_shapes(most):
+    """The plans with at most so many sections of which each empty group is a "one" group."""
+    for plan in small_plans(most):
+        below = [depth for depth, _ in plan[1:]] + [0]
+        if all(kind == O for (depth, kind), next_depth in zip(plan, below) if next_depth <= depth):
+            yield plan
 
 
 def typical_plans():

@@ -5,12 +5,12 @@ import unittest
 from copy import deepcopy
 from enum import IntEnum
 
-from accordions import clicks, plans, states
+from accordions import clicks, distances, layers, plans, shortest, states, tours
 from accordions.errors import (AccordionsError, HiddenError, InvalidClicksError, InvalidNumberError, InvalidPlanError,
-                               InvalidSectionError, InvalidStateError)
+                               InvalidSectionError, InvalidSectionsError, InvalidStateError)
 from tests.examples import CHAIN, F, G, LARGE_PLANS, O, P
 
-NO_PLAN, NO_STATE, NO_SECTION = [(1, O)], [9] * 11, 11
+NO_PLAN, NO_STATE, NO_SECTION, NO_SECTIONS, NO_NUMBER = [(1, O)], [9] * 11, 11, [1, 1], -1
 
 # The interface: file, function and parameters.
 INTERFACE = (
@@ -23,6 +23,18 @@ INTERFACE = (
     (clicks, "after_clicks", ["plan", "state", "headers"]), (clicks, "first_hidden", ["plan", "state", "clicks"]),
     (clicks, "back_click", ["plan", "state", "section"]), (clicks, "steps", ["plan", "state", "clicks"]),
     (clicks, "clicks_between", ["plan", "state", "other"]),
+    (distances, "distance", ["plan", "state", "goal"]), (distances, "greatest_distance", ["plan"]),
+    (distances, "walks", ["plan", "state", "goal"]), (distances, "working_sections", ["plan", "state", "goal"]),
+    (distances, "nearer_clicks", ["plan", "state", "goal"]),
+    (shortest, "count_shortest", ["plan", "state", "goal"]),
+    (shortest, "nth_shortest", ["plan", "state", "goal", "index"]),
+    (shortest, "shortest_rank", ["plan", "state", "goal", "value"]),
+    (shortest, "is_shortest", ["plan", "state", "goal", "value"]),
+    (layers, "numbers_by_distance", ["plan", "state"]), (layers, "farthest", ["plan", "state"]),
+    (layers, "nth_at", ["plan", "state", "count", "index"]), (layers, "rank_at", ["plan", "state", "other"]),
+    (tours, "fewest_to_show", ["plan", "state", "sections"]), (tours, "count_tours", ["plan", "state", "sections"]),
+    (tours, "nth_tour", ["plan", "state", "sections", "index"]),
+    (tours, "is_tour", ["plan", "state", "sections", "value"]),
 )
 
 # Valid arguments by name, and the result.
@@ -45,6 +57,23 @@ CALLS = (
     (clicks.back_click, {"plan": P, "state": G, "section": 7}, 1),
     (clicks.steps, {"plan": P, "state": F, "clicks": [1]}, [F, [1] + F[1:]]),
     (clicks.clicks_between, {"plan": P, "state": F, "other": [1] + F[1:]}, [1]),
+    (distances.distance, {"plan": P, "state": F, "goal": G}, 7),
+    (distances.greatest_distance, {"plan": P}, 8),
+    (distances.walks, {"plan": P, "state": F, "goal": G}, [(0, 3), (1, 1), (4, 1), (7, 2)]),
+    (distances.working_sections, {"plan": P, "state": F, "goal": G}, [0, 1, 4, 7]),
+    (distances.nearer_clicks, {"plan": P, "state": F, "goal": G}, [4, 7]),
+    (shortest.count_shortest, {"plan": P, "state": F, "goal": G}, 2),
+    (shortest.nth_shortest, {"plan": P, "state": F, "goal": G, "index": 1}, [7, 9, 10, 4, 6, 1, 3]),
+    (shortest.shortest_rank, {"plan": P, "state": F, "goal": G, "value": [7, 9, 10, 4, 6, 1, 3]}, 1),
+    (shortest.is_shortest, {"plan": P, "state": F, "goal": G, "value": [4, 6, 7, 9, 10, 1, 3]}, True),
+    (layers.numbers_by_distance, {"plan": P, "state": F}, [1, 3, 4, 13, 13, 16, 12, 8, 2]),
+    (layers.farthest, {"plan": P, "state": F}, (8, 2)),
+    (layers.nth_at, {"plan": P, "state": F, "count": 8, "index": 1}, [0, 3, 0, 0, 6, 0, 0, 10, 0, 0, 0]),
+    (layers.rank_at, {"plan": P, "state": F, "other": [0, 3, 0, 0, 6, 0, 0, 10, 0, 0, 0]}, 1),
+    (tours.fewest_to_show, {"plan": P, "state": F, "sections": [3, 6, 9]}, 6),
+    (tours.count_tours, {"plan": P, "state": F, "sections": [3, 6, 9]}, 6),
+    (tours.nth_tour, {"plan": P, "state": F, "sections": [3, 6, 9], "index": 0}, [1, 3, 4, 6, 7, 9]),
+    (tours.is_tour, {"plan": P, "state": G, "sections": [10], "value": [7]}, True),
 )
 
 
@@ -148,6 +177,37 @@ class ArgumentsTest(unittest.TestCase):
         self.assertIs(states.is_state(P, state), False)
 
 
+    def test_goal_and_sections_changed_in_place_between_calls(self):
+        state, goal, sections, value = list(F), list(G), [3, 6, 9], [7]
+        self.assertEqual([distances.distance(P, state, goal), shortest.count_shortest(P, state, goal)], [7, 2])
+        self.assertEqual([tours.count_tours(P, state, sections), layers.rank_at(P, state, goal)], [6, 3])
+        self.assertIs(tours.is_tour(P, state, sections, value), False)
+        goal[:] = [7] + F[1:]
+        sections[:] = [8]
+        self.assertEqual([distances.distance(P, state, goal), shortest.nth_shortest(P, state, goal, 0)], [1, [7]])
+        self.assertEqual([distances.walks(P, state, goal), distances.working_sections(P, state, goal)], [[(0, 1)], [0]])
+        self.assertEqual([tours.fewest_to_show(P, state, sections), layers.rank_at(P, state, goal)], [1, 2])
+        self.assertIs(tours.is_tour(P, state, sections, value), True)
+        self.assertIs(shortest.is_shortest(P, state, goal, value), True)
+        state[:] = goal
+        value.clear()
+        self.assertEqual([distances.nearer_clicks(P, state, goal), layers.rank_at(P, state, goal)], [[], 0])
+        self.assertIs(tours.is_tour(P, state, sections, value), True)
+        self.assertEqual(shortest.shortest_rank(P, state, goal, value), 0)
+        sections.append(8)
+        with self.assertRaises(InvalidSectionsError):
+            tours.count_tours(P, state, sections)
+
+    def test_plan_changed_in_place_between_distances(self):
+        plan, state, goal = [(0, O), (1, O), (1, O), (1, O)], [1, 0, 0, 0], [3, 0, 0, 0]
+        self.assertEqual([distances.distance(plan, state, goal), distances.greatest_distance(plan)], [1, 1])
+        self.assertEqual([layers.numbers_by_distance(plan, state), tours.fewest_to_show(plan, state, [3])], [[1, 3], 1])
+        plan[0] = (0, "step")
+        self.assertEqual([distances.distance(plan, state, goal), distances.greatest_distance(plan)], [2, 2])
+        self.assertEqual([layers.farthest(plan, state), tours.fewest_to_show(plan, state, [3])], [(2, 1), 2])
+        self.assertEqual(shortest.nth_shortest(plan, state, goal, 0), [2, 3])
+
+
 class ResultsTest(unittest.TestCase):
     def test_results_are_new_lists(self):
         for function, named, result in CALLS:
@@ -189,7 +249,10 @@ class ResultsTest(unittest.TestCase):
     def test_kinds_of_results(self):
         for state in (F, G):
             lists = [states.shown_sections(P, state), states.visible_headers(P, state), states.nth_state(P, 3),
-                     clicks.after_clicks(P, state, 7), clicks.clicks_between(P, state, state)]
+                     clicks.after_clicks(P, state, 7), clicks.clicks_between(P, state, state),
+                     distances.working_sections(P, state, F), distances.nearer_clicks(P, state, F),
+                     shortest.nth_shortest(P, state, F, 0), layers.nth_at(P, state, 2, 1),
+                     tours.nth_tour(P, state, [2, 9], 0)]
             for row in lists:
                 self.assertIs(type(row), list)
                 self.assertEqual([type(item) for item in row], [int] * len(row))
@@ -211,6 +274,14 @@ class IntegersTest(unittest.TestCase):
                 (lambda: clicks.first_hidden(two, [1, 0], [True]), InvalidClicksError),
                 (lambda: clicks.back_click(two, [1, 0], True), InvalidSectionError),
                 (lambda: clicks.clicks_between(two, [1, 0], [True, 0]), InvalidStateError),
+                (lambda: distances.distance(two, [1, 0], [True, 0]), InvalidStateError),
+                (lambda: shortest.nth_shortest(two, [1, 0], [1, 0], False), InvalidNumberError),
+                (lambda: shortest.shortest_rank(two, [1, 0], [1, 0], [True]), InvalidClicksError),
+                (lambda: layers.nth_at(two, [1, 0], False, 0), InvalidNumberError),
+                (lambda: layers.nth_at(two, [1, 0], 0, False), InvalidNumberError),
+                (lambda: layers.rank_at(two, [1, 0], [1, False]), InvalidStateError),
+                (lambda: tours.count_tours(two, [1, 0], [False, 1]), InvalidSectionsError),
+                (lambda: tours.nth_tour(two, [1, 0], [1], False), InvalidNumberError),
                 (lambda: plans.parent_of([(False, O)], 0), InvalidPlanError),
                 (lambda: plans.parent_of([(0, O), (True, O)], 0), InvalidPlanError)):
             with self.assertRaises(error):
@@ -235,8 +306,16 @@ class IntegersTest(unittest.TestCase):
                 plans.around(P, number)
             with self.assertRaises(InvalidClicksError):
                 clicks.first_hidden(P, F, [number])
-        with self.assertRaises(InvalidNumberError):
-            states.nth_state(P, 10 ** 80 - 1)
+            with self.assertRaises(InvalidSectionsError):
+                tours.count_tours(P, F, [number])
+            with self.assertRaises(InvalidNumberError):
+                layers.nth_at(P, F, number, 0)
+            self.assertIs(shortest.is_shortest(P, F, G, [number] * 7), False)
+        for call in (lambda index: states.nth_state(P, index), lambda index: shortest.nth_shortest(P, F, G, index),
+                     lambda index: layers.nth_at(P, F, 3, index), lambda index: tours.nth_tour(P, F, [3], index)):
+            for index in (10 ** 80 - 1, 1 - 10 ** 80):
+                with self.assertRaises(InvalidNumberError):
+                    call(index)
 
 
 class LimitsTest(unittest.TestCase):
@@ -284,6 +363,43 @@ class OrderTest(unittest.TestCase):
             with self.assertRaises(InvalidStateError):
                 call()
 
+    def test_plan_before_goals_sections_and_numbers(self):
+        bad = NO_STATE
+        for call in (lambda: distances.distance(NO_PLAN, bad, bad), lambda: distances.walks(NO_PLAN, bad, bad),
+                     lambda: distances.working_sections(NO_PLAN, bad, bad),
+                     lambda: distances.nearer_clicks(NO_PLAN, bad, bad),
+                     lambda: shortest.count_shortest(NO_PLAN, bad, bad),
+                     lambda: shortest.nth_shortest(NO_PLAN, bad, bad, NO_NUMBER),
+                     lambda: shortest.shortest_rank(NO_PLAN, bad, bad, [0]),
+                     lambda: shortest.is_shortest(NO_PLAN, bad, bad, [0]),
+                     lambda: layers.numbers_by_distance(NO_PLAN, bad), lambda: layers.farthest(NO_PLAN, bad),
+                     lambda: layers.nth_at(NO_PLAN, bad, NO_NUMBER, NO_NUMBER),
+                     lambda: layers.rank_at(NO_PLAN, bad, bad),
+                     lambda: tours.fewest_to_show(NO_PLAN, bad, NO_SECTIONS),
+                     lambda: tours.count_tours(NO_PLAN, bad, NO_SECTIONS),
+                     lambda: tours.nth_tour(NO_PLAN, bad, NO_SECTIONS, NO_NUMBER),
+                     lambda: tours.is_tour(NO_PLAN, bad, NO_SECTIONS, [0])):
+            with self.assertRaises(InvalidPlanError):
+                call()
+
+    def test_state_and_goal_before_numbers_values_and_sections(self):
+        bad = NO_STATE
+        for call in (lambda: shortest.nth_shortest(P, bad, F, NO_NUMBER),
+                     lambda: shortest.nth_shortest(P, F, bad, NO_NUMBER),
+                     lambda: shortest.shortest_rank(P, bad, F, [0]), lambda: shortest.shortest_rank(P, F, bad, [0]),
+                     lambda: shortest.is_shortest(P, F, bad, [0]), lambda: layers.nth_at(P, bad, NO_NUMBER, NO_NUMBER),
+                     lambda: tours.fewest_to_show(P, bad, NO_SECTIONS), lambda: tours.count_tours(P, bad, NO_SECTIONS),
+                     lambda: tours.nth_tour(P, bad, NO_SECTIONS, NO_NUMBER),
+                     lambda: tours.is_tour(P, bad, NO_SECTIONS, [0])):
+            with self.assertRaises(InvalidStateError):
+                call()
+
+    def test_sections_before_index(self):
+        with self.assertRaises(InvalidSectionsError):
+            tours.nth_tour(P, F, NO_SECTIONS, NO_NUMBER)
+        with self.assertRaises(InvalidNumberError):
+            tours.nth_tour(P, F, [1], NO_NUMBER)
+
     def test_click_list_before_hidden_headers(self):
         for call in (lambda: clicks.after_clicks(P, F, 2, 0), lambda: clicks.first_hidden(P, F, [2, NO_SECTION]),
                      lambda: list(clicks.steps(P, F, [2, True]))):
@@ -303,7 +419,14 @@ class OrderTest(unittest.TestCase):
                             (lambda: plans.parent_of(P, NO_SECTION), InvalidSectionError),
                             (lambda: states.nth_state(P, 72), InvalidNumberError),
                             (lambda: clicks.first_hidden(P, F, [0]), InvalidClicksError),
-                            (lambda: clicks.after_clicks(P, F, 2), HiddenError)):
+                            (lambda: clicks.after_clicks(P, F, 2), HiddenError),
+                            (lambda: distances.distance(P, F, NO_STATE), InvalidStateError),
+                            (lambda: shortest.shortest_rank(P, F, G, []), InvalidClicksError),
+                            (lambda: shortest.nth_shortest(P, F, G, 2), InvalidNumberError),
+                            (lambda: layers.nth_at(P, F, 9, 0), InvalidNumberError),
+                            (lambda: layers.nth_at(P, F, -1, 0), InvalidNumberError),
+                            (lambda: tours.count_tours(P, F, [2, 1]), InvalidSectionsError),
+                            (lambda: tours.nth_tour(P, F, [], 1), InvalidNumberError)):
             with self.assertRaises(ValueError) as caught:
                 call()
             self.assertIs(type(caught.exception), error)

@@ -95,6 +95,26 @@ class LanguageTest(unittest.TestCase):
                     if node.module not in LIBRARY:
                         self.assertLessEqual({one.name for one in node.names}, set(defined[node.module]))
 
+    def test_no_variable_has_the_name_of_an_import(self):
+        for file, tree in trees():
+            imported = {one.asname or one.name for node in tree.body if isinstance(node, ast.ImportFrom)
+                        for one in node.names}
+            for node in ast.walk(tree):
+                if isinstance(node, ast.arg):
+                    self.assertNotIn(node.arg, imported, (file, node.lineno))
+                if isinstance(node, ast.Name) and not isinstance(node.ctx, ast.Load):
+                    self.assertNotIn(node.id, imported, (file, node.lineno))
+
+    def test_what_the_library_gives_is_only_called(self):
+        for file, tree in trees():
+            given = {one.name for node in tree.body if isinstance(node, ast.ImportFrom) and node.module in LIBRARY
+                     for one in node.names}
+            calls = [node for node in ast.walk(tree) if isinstance(node, ast.Call)
+                     and isinstance(node.func, ast.Name) and node.func.id in given]
+            self.assertFalse([node for node in calls if node.keywords], file)
+            found = [node for node in ast.walk(tree) if isinstance(node, ast.Name) and node.id in given]
+            self.assertEqual(sorted(map(id, found)), sorted(id(node.func) for node in calls), file)
+
     def test_no_circle_of_imports(self):
         needs = {}
         for file, tree in trees():

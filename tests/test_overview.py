@@ -2,9 +2,13 @@
 
 import unittest
 
-from accordions.clicks import after_clicks, first_hidden
+from accordions.clicks import after_clicks, first_hidden, steps
+from accordions.distances import distance
+from accordions.layers import numbers_by_distance
 from accordions.plans import around, group_of, is_plan
+from accordions.shortest import count_shortest, nth_shortest
 from accordions.states import count_states, is_state, nth_state, shown_sections, state_rank, visible_headers
+from accordions.tours import fewest_to_show, nth_tour
 from tests.examples import F, G, P, small_plans
 
 
@@ -49,6 +53,23 @@ class OverviewTest(unittest.TestCase):
         states = [nth_state(P, index) for index in range(count_states(P))]
         self.assertEqual(states, sorted(states))
         self.assertEqual([state_rank(P, state) for state in states], list(range(72)))
+
+    def test_fewest_clicks_from_one_state_to_another(self):
+        lists = [nth_shortest(P, F, G, index) for index in range(count_shortest(P, F, G))]
+        self.assertEqual(lists, sorted(lists))
+        for clicks in lists:
+            self.assertEqual(len(clicks), distance(P, F, G))
+            self.assertEqual(after_clicks(P, F, *clicks), G)
+
+    def test_numbers_of_states_at_each_distance(self):
+        found = [distance(P, F, nth_state(P, index)) for index in range(72)]
+        self.assertEqual(numbers_by_distance(P, F), [found.count(clicks) for clicks in range(max(found) + 1)])
+
+    def test_fewest_clicks_that_show_given_sections(self):
+        tour = nth_tour(P, F, [2, 3, 10], 0)
+        self.assertEqual(len(tour), fewest_to_show(P, F, [2, 3, 10]))
+        seen = [section for state in steps(P, F, tour) for section in shown_sections(P, state)]
+        self.assertLessEqual({2, 3, 10}, set(seen))
 
 
 if __name__ == "__main__":
