@@ -1,8 +1,8 @@
 """Clicks: what one click or a list of clicks does to a state."""
 
 from accordions.errors import HiddenError, InvalidClicksError
-from accordions.plans import all_parents, check_below_page, check_plan, is_section
-from accordions.states import check_state, clickable_headers
+from accordions.plans import all_parents, check_below_page, check_plan, end_of, is_section
+from accordions.states import check_state, clickable_headers, first_state
 
 MOST_CLICKS = 300
 
@@ -35,19 +35,39 @@ def after_one_click(plan, state, section):
     return result
 
 
-def states_while_visible(plan, state, clicks):
-    """Return the states at the beginning and after each click before the first hidden header."""
+def after_forgetful_click(plan, state, section):
+    """Return the state after a click after which the section that it closes is as in the first state."""
+    parent = all_parents(plan)[section]
+    result = after_one_click(plan, state, section)
+    closed = state[parent]
+    if closed in (0, result[parent]):
+        return result
+    end = end_of(plan, closed)
+    return result[:closed] + first_state(plan)[closed:end] + result[end:]
+
+
+def rows_while_visible(plan, state, clicks, after_click):
+    """Return the states at the beginning and after each click before the first hidden header.
+
+    `after_click(plan, state, section)` returns the state after one click.
+    """
     rows = [list(state)]
     for section in clicks:
         if section not in clickable_headers(plan, rows[-1]):
             return rows
-        rows.append(after_one_click(plan, rows[-1], section))
+        rows.append(after_click(plan, rows[-1], section))
     return rows
 
 
-def states_on_the_way(plan, state, clicks):
-    """Return the states at the beginning and after each click; all headers must be visible."""
-    rows = states_while_visible(plan, state, clicks)
+def states_while_visible(plan, state, clicks):
+    """Return the states at the beginning and after each click before the first hidden header."""
+    return rows_while_visible(plan, state, clicks, after_one_click)
+
+
+def states_on_the_way(plan, state, clicks, after_click):
+    """Return the states at the beginning and after each click, if this is a click list that works."""
+    check_clicks(plan, clicks)
+    rows = rows_while_visible(plan, state, clicks, after_click)
     if len(rows) <= len(clicks):
         raise HiddenError(len(rows) - 1)
     return rows
@@ -57,9 +77,7 @@ def after_clicks(plan, state, *headers):
     """Return the state after clicks on these headers."""
     check_plan(plan)
     check_state(plan, state)
-    clicks = list(headers)
-    check_clicks(plan, clicks)
-    return states_on_the_way(plan, state, clicks)[-1]
+    return states_on_the_way(plan, state, list(headers), after_one_click)[-1]
 
 
 def first_hidden(plan, state, clicks):
@@ -77,10 +95,9 @@ def steps(plan, state, clicks):
     """Yield the state at the beginning and after each click."""
     check_plan(plan)
     check_state(plan, state)
-    check_clicks(plan, clicks)
     # All states are known before the first is yielded, so that the whole list
     # is checked and no later change of an argument or a result can matter.
-    for row in states_on_the_way(plan, state, clicks):
+    for row in states_on_the_way(plan, state, clicks, after_one_click):
         yield row
 
 

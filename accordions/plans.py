@@ -16,12 +16,17 @@ def is_plan(value):
     return depths_fit([row[0] for row in value])
 
 
+def is_kind_word(value):
+    """Tell whether any value is the word for a kind."""
+    return isinstance(value, str) and value in KINDS
+
+
 def is_depth_and_kind(value):
     """Tell whether any value is a tuple of an integer and a kind."""
     if type(value) != tuple or len(value) != 2:
         return False
     depth, kind = value
-    return is_whole_number(depth) and isinstance(kind, str) and kind in KINDS
+    return is_whole_number(depth) and is_kind_word(kind)
 
 
 def depths_fit(depths):

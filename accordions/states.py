@@ -51,6 +51,18 @@ def product_of_lengths(rows):
     return many
 
 
+def nth_of_products(rows, index):
+    """Return the list with this index in list order among those with one item of each row."""
+    check_index(index, product_of_lengths(rows))
+    items = []
+    rest = index
+    # The last item varies fastest in list order, so it is found first.
+    for row in rows[::-1]:
+        rest, place = divmod(rest, len(row))
+        items.append(row[place])
+    return items[::-1]
+
+
 def count_states(plan):
     """Return the number of states."""
     check_plan(plan)
@@ -60,15 +72,7 @@ def count_states(plan):
 def nth_state(plan, index):
     """Return the state with this index in list order."""
     check_plan(plan)
-    rows = all_choices(plan)
-    check_index(index, product_of_lengths(rows))
-    state = []
-    rest = index
-    # The last setting varies fastest in list order, so it is found first.
-    for choices in rows[::-1]:
-        rest, place = divmod(rest, len(choices))
-        state.append(choices[place])
-    return state[::-1]
+    return nth_of_products(all_choices(plan), index)
 
 
 def state_rank(plan, state):

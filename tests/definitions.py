@@ -107,10 +107,14 @@ def walk(plan, state, goal, section):
     return (high - low) + min((p - low) + (high - q), (q - low) + (high - p))
 
 
+def inside(plan, section):
+    """All sections within this one."""
+    return [other for other in range(len(plan)) if section in around(plan, other)]
+
+
 def clicks_within(plan, state, goal, section):
     """The sum of the walks of the group of a section and of all groups within it."""
-    inner = [other for other in range(len(plan)) if section in around(plan, other)]
-    return sum(walk(plan, state, goal, other) for other in [section] + inner)
+    return sum(walk(plan, state, goal, other) for other in [section] + inside(plan, section))
 
 
 def distance(plan, state, goal):
@@ -170,3 +174,63 @@ def tour_length(plan, state, sections):
             low, high = min(places), max(places)
             total += (high - low) + min(p - low, high - p)
     return total
+
+
+def settings(plan, section):
+    """The settings that the group of a section, which is not empty, may have."""
+    return ([0] if plan[section][1] == "one" else []) + group(plan, section)
+
+
+def setting_through(plan, section, before, clicks):
+    """The setting of a group after clicks, None if one of them finds it in the wrong place."""
+    beside = group(plan, section)
+    now = before
+    for click in clicks:
+        if click in beside:
+            if plan[section][1] == "step" and abs(beside.index(click) - beside.index(now)) > 1:
+                return None
+            now = 0 if plan[section][1] == "one" and now == click else click
+        elif any(click in inside(plan, inner) and now != inner for inner in beside):
+            return None
+    return now
+
+
+def effect(plan, clicks):
+    """For each group that is not empty its section and its pairs."""
+    rows = []
+    for section in range(len(plan)):
+        if group(plan, section):
+            pairs = [(before, setting_through(plan, section, before, clicks)) for before in settings(plan, section)]
+            rows.append((section, [pair for pair in pairs if pair[1] is not None]))
+    if any(not pairs for _, pairs in rows):
+        return [(section, []) for section, _ in rows]
+    return rows
+
+
+def view(plan, state):
+    headers = [section for section in range(len(plan)) if is_visible(plan, state, section)]
+    return [(section, is_open(plan, state, section)) for section in headers]
+
+
+def first_state(plan):
+    return [settings(plan, section)[0] if group(plan, section) else 0 for section in range(len(plan))]
+
+
+def after_forgetful_click(plan, state, section):
+    """The state after a click in a forgetful menu."""
+    after = after_click(plan, state, section)
+    for other in group(plan, parent(plan, section)):
+        if is_open(plan, state, other) and not is_open(plan, after, other):
+            for inner in [other] + inside(plan, other):
+                after[inner] = first_state(plan)[inner]
+    return after
+
+
+def plan_text(plan, section=0):
+    """A section and all within it as a string."""
+    parts = [plan_text(plan, inner) for inner in group(plan, section)]
+    return plan[section][1] + ("(" + " ".join(parts) + ")" if parts else "")
+
+
+def state_text(plan, state):
+    return " ".join(str(section) + ":" + str(state[section]) for section in range(len(plan)) if group(plan, section))

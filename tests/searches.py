@@ -61,3 +61,39 @@ def tours(plan, moves, state, sections):
 
     start = (tuple(state), left_after(state, sections))
     return fewest_lists(start, going_on, lambda node: not node[1])
+
+
+def runs(moves, clicks):
+    """For each state, as a tuple, from which a click list works the state to which it leads."""
+    found = {}
+    for start in moves:
+        here = start
+        for click in clicks:
+            here = dict(moves[here]).get(click)
+            if here is None:
+                break
+        else:
+            found[start] = here
+    return found
+
+
+def readings(moves, views, wanted):
+    """All ways to see these views: tuples of the state at the beginning, the clicks and the state at the end.
+
+    `views` has the view of each state. A click that changes nothing is a 0.
+    """
+    found = {(state, (), state) for state in moves if views[state] == wanted[0]}
+    for view in wanted[1:]:
+        found = {(start, clicks + (click if after != here else 0,), after) for start, clicks, here in found
+                 for click, after in moves[here] if views[after] == view}
+    return found
+
+
+def walk(moves, chance, length):
+    """A state and a click list that works from it, by chance."""
+    start = here = chance.choice(sorted(moves))
+    clicks = []
+    for _ in range(length if moves[here] else 0):
+        click, here = chance.choice(moves[here])
+        clicks.append(click)
+    return list(start), clicks

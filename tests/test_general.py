@@ -5,12 +5,18 @@ import unittest
 from copy import deepcopy
 from enum import IntEnum
 
-from accordions import clicks, distances, layers, plans, shortest, states, tours
-from accordions.errors import (AccordionsError, HiddenError, InvalidClicksError, InvalidNumberError, InvalidPlanError,
-                               InvalidSectionError, InvalidSectionsError, InvalidStateError)
+from accordions import clicks, distances, effects, layers, menu, plans, shortest, states, text, tours, views
+from accordions.errors import (AccordionsError, EmptyHistoryError, HiddenError, InvalidClicksError, InvalidFormatError,
+                               InvalidNumberError, InvalidPlanError, InvalidSectionError, InvalidSectionsError,
+                               InvalidStateError, InvalidViewsError, NotFittingError)
 from tests.examples import CHAIN, F, G, LARGE_PLANS, O, P
 
 NO_PLAN, NO_STATE, NO_SECTION, NO_SECTIONS, NO_NUMBER = [(1, O)], [9] * 11, 11, [1, 1], -1
+VIEW_F = [(1, False), (4, False), (7, False)]
+VIEW_G = [(1, True), (2, False), (3, True), (4, False), (7, False)]
+TEXT = "one(one(one one) tab(one one) step(one one one))"
+# What [4, 6] does to the groups of the sections 1, 4 and 7, and no click to the page's.
+INNER = [(1, [(0, 0), (2, 2), (3, 3)]), (4, [(5, 6), (6, 6)]), (7, [(8, 8), (9, 9), (10, 10)])]
 
 # The interface: file, function and parameters.
 INTERFACE = (
@@ -35,6 +41,15 @@ INTERFACE = (
     (tours, "fewest_to_show", ["plan", "state", "sections"]), (tours, "count_tours", ["plan", "state", "sections"]),
     (tours, "nth_tour", ["plan", "state", "sections", "index"]),
     (tours, "is_tour", ["plan", "state", "sections", "value"]),
+    (effects, "effect_of", ["plan", "clicks"]), (effects, "effect_of_rounds", ["plan", "clicks", "count"]),
+    (effects, "same_effect", ["plan", "first", "second"]), (effects, "count_starts", ["plan", "clicks"]),
+    (effects, "count_ends", ["plan", "clicks"]), (effects, "nth_start", ["plan", "clicks", "index"]),
+    (views, "view_of", ["plan", "state"]), (views, "is_view", ["plan", "value"]),
+    (views, "count_alike", ["plan", "state"]), (views, "count_beginnings", ["plan", "views"]),
+    (views, "nth_alike", ["plan", "state", "index"]), (views, "clicks_of", ["plan", "views"]),
+    (views, "known_settings", ["plan", "views"]),
+    (text, "format_plan", ["plan"]), (text, "format_state", ["plan", "state"]), (text, "parse_plan", ["text"]),
+    (text, "parse_state", ["plan", "text"]),
 )
 
 # Valid arguments by name, and the result.
@@ -74,6 +89,23 @@ CALLS = (
     (tours.count_tours, {"plan": P, "state": F, "sections": [3, 6, 9]}, 6),
     (tours.nth_tour, {"plan": P, "state": F, "sections": [3, 6, 9], "index": 0}, [1, 3, 4, 6, 7, 9]),
     (tours.is_tour, {"plan": P, "state": G, "sections": [10], "value": [7]}, True),
+    (effects.effect_of, {"plan": P, "clicks": [4, 6]}, [(0, [(0, 4), (1, 4), (7, 4)])] + INNER),
+    (effects.effect_of_rounds, {"plan": P, "clicks": [4, 6], "count": 1}, [(0, [(0, 4), (1, 4), (7, 4)])] + INNER),
+    (effects.same_effect, {"plan": P, "first": [1, 4], "second": [7, 4]}, True),
+    (effects.count_starts, {"plan": P, "clicks": [4, 6]}, 54),
+    (effects.count_ends, {"plan": P, "clicks": [4, 6]}, 9),
+    (effects.nth_start, {"plan": P, "clicks": [4, 6], "index": 53}, [7, 3, 0, 0, 6, 0, 0, 10, 0, 0, 0]),
+    (views.view_of, {"plan": P, "state": G}, VIEW_G),
+    (views.is_view, {"plan": P, "value": VIEW_G}, True),
+    (views.count_alike, {"plan": P, "state": G}, 6),
+    (views.nth_alike, {"plan": P, "state": G, "index": 5}, G),
+    (views.clicks_of, {"plan": P, "views": [VIEW_F, VIEW_G]}, [1]),
+    (views.count_beginnings, {"plan": P, "views": [VIEW_F, VIEW_G]}, 6),
+    (views.known_settings, {"plan": P, "views": [VIEW_F, VIEW_G]}, [1, 3, 0, 0, None, 0, 0, None, 0, 0, 0]),
+    (text.format_plan, {"plan": P}, TEXT),
+    (text.parse_plan, {"text": TEXT}, P),
+    (text.format_state, {"plan": P, "state": G}, "0:1 1:3 4:6 7:10"),
+    (text.parse_state, {"plan": P, "text": "0:1 1:3 4:6 7:10"}, G),
 )
 
 
@@ -176,7 +208,6 @@ class ArgumentsTest(unittest.TestCase):
         state[0] = 2
         self.assertIs(states.is_state(P, state), False)
 
-
     def test_goal_and_sections_changed_in_place_between_calls(self):
         state, goal, sections, value = list(F), list(G), [3, 6, 9], [7]
         self.assertEqual([distances.distance(P, state, goal), shortest.count_shortest(P, state, goal)], [7, 2])
@@ -206,6 +237,38 @@ class ArgumentsTest(unittest.TestCase):
         self.assertEqual([distances.distance(plan, state, goal), distances.greatest_distance(plan)], [2, 2])
         self.assertEqual([layers.farthest(plan, state), tours.fewest_to_show(plan, state, [3])], [(2, 1), 2])
         self.assertEqual(shortest.nth_shortest(plan, state, goal, 0), [2, 3])
+
+    def test_clicks_and_views_changed_in_place_between_calls(self):
+        way, other, seen = [4, 6], [4], [list(VIEW_F), list(VIEW_F)]
+        self.assertEqual([effects.count_starts(P, way), effects.same_effect(P, way, other)], [54, False])
+        self.assertEqual([views.clicks_of(P, seen), views.count_beginnings(P, seen)], [None, 0])
+        way.pop()
+        seen[1][:] = VIEW_G
+        self.assertEqual([effects.count_ends(P, way), effects.same_effect(P, way, other)], [36, True])
+        self.assertEqual([effects.effect_of(P, way)[0][1], effects.nth_start(P, way, 71)[:2]],
+                         [[(0, 4), (1, 4), (4, 0), (7, 4)], [7, 3]])
+        self.assertEqual([views.clicks_of(P, seen), views.count_beginnings(P, seen)], [[1], 6])
+        way.append(2)
+        seen.append(seen[1])
+        self.assertEqual(effects.effect_of_rounds(P, way, 1), [(0, []), (1, []), (4, []), (7, [])])
+        with self.assertRaises(NotFittingError):
+            views.known_settings(P, seen)
+        way.append(0)
+        seen[1].pop()
+        with self.assertRaises(InvalidClicksError):
+            effects.count_starts(P, way)
+        with self.assertRaises(InvalidViewsError):
+            views.clicks_of(P, seen)
+
+    def test_plan_changed_in_place_between_effects_views_and_strings(self):
+        plan, state = [(0, O), (1, O), (1, O), (1, O)], [1, 0, 0, 0]
+        self.assertEqual([effects.count_starts(plan, [3]), len(views.view_of(plan, state))], [4, 3])
+        self.assertEqual([text.format_plan(plan), text.parse_state(plan, "0:0")], ["one(one one one)", [0, 0, 0, 0]])
+        plan[0] = (0, "step")
+        self.assertEqual([effects.count_starts(plan, [3]), len(views.view_of(plan, state))], [2, 2])
+        self.assertEqual(text.format_plan(plan), "step(one one one)")
+        with self.assertRaises(InvalidFormatError):
+            text.parse_state(plan, "0:0")
 
 
 class ResultsTest(unittest.TestCase):
@@ -252,7 +315,8 @@ class ResultsTest(unittest.TestCase):
                      clicks.after_clicks(P, state, 7), clicks.clicks_between(P, state, state),
                      distances.working_sections(P, state, F), distances.nearer_clicks(P, state, F),
                      shortest.nth_shortest(P, state, F, 0), layers.nth_at(P, state, 2, 1),
-                     tours.nth_tour(P, state, [2, 9], 0)]
+                     tours.nth_tour(P, state, [2, 9], 0), effects.nth_start(P, [4], 7), views.nth_alike(P, state, 3),
+                     views.clicks_of(P, [VIEW_F, VIEW_G, VIEW_F]), text.parse_state(P, "0:1 1:3 4:6 7:10")]
             for row in lists:
                 self.assertIs(type(row), list)
                 self.assertEqual([type(item) for item in row], [int] * len(row))
@@ -282,6 +346,20 @@ class IntegersTest(unittest.TestCase):
                 (lambda: layers.rank_at(two, [1, 0], [1, False]), InvalidStateError),
                 (lambda: tours.count_tours(two, [1, 0], [False, 1]), InvalidSectionsError),
                 (lambda: tours.nth_tour(two, [1, 0], [1], False), InvalidNumberError),
+                (lambda: effects.effect_of(two, [True]), InvalidClicksError),
+                (lambda: effects.same_effect(two, [1], [True]), InvalidClicksError),
+                (lambda: effects.effect_of_rounds(two, [1], True), InvalidNumberError),
+                (lambda: effects.effect_of_rounds(two, [1], False), InvalidNumberError),
+                (lambda: effects.nth_start(two, [1], False), InvalidNumberError),
+                (lambda: views.view_of(two, [True, 0]), InvalidStateError),
+                (lambda: views.nth_alike(two, [1, 0], False), InvalidNumberError),
+                (lambda: views.clicks_of(two, [[(True, True)]]), InvalidViewsError),
+                (lambda: views.clicks_of(two, [[(1, 1)]]), InvalidViewsError),
+                (lambda: text.format_state(two, [True, 0]), InvalidStateError),
+                (lambda: menu.Menu(two).click(True), InvalidClicksError),
+                (lambda: menu.Menu(two).show(True), InvalidSectionError),
+                (lambda: menu.Menu(two).show(False), InvalidSectionError),
+                (lambda: menu.Menu([(False, O)]), InvalidPlanError),
                 (lambda: plans.parent_of([(False, O)], 0), InvalidPlanError),
                 (lambda: plans.parent_of([(0, O), (True, O)], 0), InvalidPlanError)):
             with self.assertRaises(error):
@@ -296,6 +374,9 @@ class IntegersTest(unittest.TestCase):
         self.assertIs(plans.is_plan(plan), True)
         self.assertEqual(plans.parent_of(plan, Place.FIRST), 0)
         self.assertEqual(states.state_rank(plan, [Place.FIRST, 0]), 1)
+        self.assertEqual(views.view_of(plan, [Place.FIRST, 0]), [(1, True)])
+        self.assertEqual(text.format_state(plan, [Place.FIRST, 0]), "0:1")
+        self.assertEqual(menu.Menu(plan).click(Place.FIRST), [True])
 
     def test_large_integers(self):
         huge = 10 ** 31 - 1
@@ -310,9 +391,18 @@ class IntegersTest(unittest.TestCase):
                 tours.count_tours(P, F, [number])
             with self.assertRaises(InvalidNumberError):
                 layers.nth_at(P, F, number, 0)
+            with self.assertRaises(InvalidClicksError):
+                effects.effect_of(P, [number])
+            with self.assertRaises(InvalidNumberError):
+                effects.effect_of_rounds(P, [4], number)
+            with self.assertRaises(InvalidViewsError):
+                views.clicks_of(P, [VIEW_F[:2] + [(number, False)]])
+            with self.assertRaises(InvalidClicksError):
+                menu.Menu(P).click(number)
             self.assertIs(shortest.is_shortest(P, F, G, [number] * 7), False)
         for call in (lambda index: states.nth_state(P, index), lambda index: shortest.nth_shortest(P, F, G, index),
-                     lambda index: layers.nth_at(P, F, 3, index), lambda index: tours.nth_tour(P, F, [3], index)):
+                     lambda index: layers.nth_at(P, F, 3, index), lambda index: tours.nth_tour(P, F, [3], index),
+                     lambda index: effects.nth_start(P, [4], index), lambda index: views.nth_alike(P, F, index)):
             for index in (10 ** 80 - 1, 1 - 10 ** 80):
                 with self.assertRaises(InvalidNumberError):
                     call(index)
@@ -331,6 +421,16 @@ class LimitsTest(unittest.TestCase):
     def test_more_than_twenty_headers(self):
         self.assertEqual(clicks.after_clicks(P, F, *([1] * 21)), [1] + F[1:])
         self.assertEqual(clicks.after_clicks(P, F, *([1] * 300)), F)
+        self.assertEqual(menu.Menu(P).click(*([1] * 300)), [True] * 300)
+
+    def test_strings_of_four_thousand_characters(self):
+        for sign in (" ", "(", ")", "~", "\n", "o", "0", ":"):
+            with self.assertRaises(InvalidFormatError):
+                text.parse_plan(sign * 4000)
+            with self.assertRaises(InvalidFormatError):
+                text.parse_state(P, sign * 4000)
+            with self.assertRaises(InvalidFormatError):
+                menu.Menu.read(sign * 4000)
 
 
 class OrderTest(unittest.TestCase):
@@ -394,6 +494,37 @@ class OrderTest(unittest.TestCase):
             with self.assertRaises(InvalidStateError):
                 call()
 
+    def test_plan_before_clicks_views_and_strings(self):
+        for call in (lambda: effects.effect_of(NO_PLAN, [0]), lambda: effects.effect_of_rounds(NO_PLAN, [0], -1),
+                     lambda: effects.same_effect(NO_PLAN, [0], [0]), lambda: effects.count_starts(NO_PLAN, [0]),
+                     lambda: effects.nth_start(NO_PLAN, [0], -1), lambda: effects.count_ends(NO_PLAN, [0]),
+                     lambda: views.view_of(NO_PLAN, NO_STATE), lambda: views.is_view(NO_PLAN, None),
+                     lambda: views.count_alike(NO_PLAN, NO_STATE), lambda: views.nth_alike(NO_PLAN, NO_STATE, -1),
+                     lambda: views.clicks_of(NO_PLAN, []), lambda: views.count_beginnings(NO_PLAN, []),
+                     lambda: views.known_settings(NO_PLAN, []), lambda: text.format_plan(NO_PLAN),
+                     lambda: text.format_state(NO_PLAN, NO_STATE), lambda: text.parse_state(NO_PLAN, None)):
+            with self.assertRaises(InvalidPlanError):
+                call()
+
+    def test_clicks_and_state_before_numbers(self):
+        for call in (lambda: effects.effect_of_rounds(P, [0], -1), lambda: effects.nth_start(P, [0], -1),
+                     lambda: effects.effect_of_rounds(P, [True], None)):
+            with self.assertRaises(InvalidClicksError):
+                call()
+        with self.assertRaises(InvalidStateError):
+            views.nth_alike(P, NO_STATE, -1)
+
+    def test_each_of_two_click_lists(self):
+        for first, second in (([0], []), ([], [0]), ([0], [0]), (None, []), ([], None)):
+            with self.assertRaises(InvalidClicksError):
+                effects.same_effect(P, first, second)
+
+    def test_views_before_whether_they_fit(self):
+        with self.assertRaises(InvalidViewsError):
+            views.known_settings(P, [VIEW_F, VIEW_F, []])
+        with self.assertRaises(NotFittingError):
+            views.known_settings(P, [VIEW_F, VIEW_F])
+
     def test_sections_before_index(self):
         with self.assertRaises(InvalidSectionsError):
             tours.nth_tour(P, F, NO_SECTIONS, NO_NUMBER)
@@ -426,7 +557,24 @@ class OrderTest(unittest.TestCase):
                             (lambda: layers.nth_at(P, F, 9, 0), InvalidNumberError),
                             (lambda: layers.nth_at(P, F, -1, 0), InvalidNumberError),
                             (lambda: tours.count_tours(P, F, [2, 1]), InvalidSectionsError),
-                            (lambda: tours.nth_tour(P, F, [], 1), InvalidNumberError)):
+                            (lambda: tours.nth_tour(P, F, [], 1), InvalidNumberError),
+                            (lambda: effects.effect_of(P, [0]), InvalidClicksError),
+                            (lambda: effects.effect_of_rounds(P, [4], -1), InvalidNumberError),
+                            (lambda: effects.effect_of_rounds(P, [4], 10 ** 30 + 1), InvalidNumberError),
+                            (lambda: effects.nth_start(P, [4, 6], 54), InvalidNumberError),
+                            (lambda: views.nth_alike(P, G, 6), InvalidNumberError),
+                            (lambda: views.clicks_of(P, []), InvalidViewsError),
+                            (lambda: views.count_beginnings(P, [[]]), InvalidViewsError),
+                            (lambda: views.known_settings(P, [VIEW_F, VIEW_F]), NotFittingError),
+                            (lambda: text.parse_plan("one()"), InvalidFormatError),
+                            (lambda: text.parse_state(P, ""), InvalidFormatError),
+                            (lambda: menu.Menu(NO_PLAN), InvalidPlanError),
+                            (lambda: menu.Menu.read(""), InvalidFormatError),
+                            (lambda: menu.Menu(P).click(0), InvalidClicksError),
+                            (lambda: menu.Menu(P).click(2), HiddenError),
+                            (lambda: menu.Menu(P).tried(2), HiddenError),
+                            (lambda: menu.Menu(P).show(11), InvalidSectionError),
+                            (lambda: menu.Menu(P).undo(), EmptyHistoryError)):
             with self.assertRaises(ValueError) as caught:
                 call()
             self.assertIs(type(caught.exception), error)

@@ -15,6 +15,10 @@ isinstance ord repr any all divmod pow getattr hasattr setattr Exception ValueEr
 LookupError ZeroDivisionError ArithmeticError OverflowError RuntimeError NotImplementedError AttributeError
 StopIteration NotImplemented iter next map type object super property staticmethod classmethod""".split())
 FORBIDDEN = (ast.Global, ast.AsyncFunctionDef, ast.Await, ast.Import, ast.TypeIgnore)
+METHODS = set("""append clear copy count endswith extend find get index insert isalnum isalpha isdigit islower isspace
+isupper items join keys ljust lower lstrip partition pop remove replace reverse rfind rjust rpartition rsplit rstrip
+setdefault split splitlines startswith strip update upper values zfill bit_length""".split())
+DOUBLE = {"__init__", "__eq__", "__len__", "__repr__", "__str__"}
 
 
 def trees():
@@ -152,14 +156,107 @@ class LanguageTest(unittest.TestCase):
                         self.assertNotIn("%", node.value, file)
                 self.assertNotIsInstance(getattr(node, "op", None), (ast.Div, ast.MatMult), file)
 
-    def test_is_stands_beside_none_true_and_false(self):
+    def test_is_stands_beside_none_true_and_false_and_between_classes(self):
         for file, tree in trees():
             for node in ast.walk(tree):
                 if isinstance(node, ast.Compare) and any(isinstance(op, (ast.Is, ast.IsNot)) for op in node.ops):
                     sides = [node.left, *node.comparators]
                     plain = [side for side in sides if isinstance(side, ast.Constant)
                              and (side.value is None or isinstance(side.value, bool))]
-                    self.assertTrue(plain, (file, node.lineno))
+                    kinds = [side for side in sides if isinstance(side, ast.Call) and ast.unparse(side.func) == "type"]
+                    self.assertTrue(plain or kinds == sides, (file, node.lineno))
+
+    def test_no_generator_expression_and_no_try(self):
+        # A class has `__eq__`, so `any`, `all` and their kin take lists, and little may stand in a `try`.
+        for file, tree in trees():
+            for node in ast.walk(tree):
+                self.assertNotIsInstance(node, (ast.GeneratorExp, ast.Try, ast.Lambda, ast.NamedExpr), file)
+
+    def test_sets_are_made_on_the_spot(self):
+        for file, tree in trees():
+            inner = {id(argument) for node in ast.walk(tree) if isinstance(node, ast.Call)
+                     and ast.unparse(node.func) in ("sorted", "len") for argument in node.args}
+            for node in ast.walk(tree):
+                self.assertNotIsInstance(node, (ast.Set, ast.SetComp), file)
+                if isinstance(node, ast.Call) and ast.unparse(node.func) == "set":
+                    self.assertIn(id(node), inner, (file, node.lineno))
+
+    def test_only_listed_methods_are_called(self):
+        own = {node.name for _, tree in trees() for node in ast.walk(tree) if isinstance(node, ast.FunctionDef)}
+        for file, tree in trees():
+            for node in ast.walk(tree):
+                if isinstance(node, ast.Call) and isinstance(node.func, ast.Attribute):
+                    self.assertIn(node.func.attr, METHODS | own, (file, node.lineno))
+
+
+def methods_in(tree):
+    """The classes of a file with their methods."""
+    return [(kind, node) for kind in tree.body if isinstance(kind, ast.ClassDef)
+            for node in kind.body if isinstance(node, ast.FunctionDef)]
+
+
+def methods():
+    for file, tree in trees():
+        for kind, node in methods_in(tree):
+            yield file, kind, node
+
+
+class ClassesTest(unittest.TestCase):
+    def test_bodies(self):
+        for file, tree in trees():
+            for kind in tree.body:
+                if isinstance(kind, ast.ClassDef):
+                    self.assertEqual([kind.decorator_list, kind.keywords], [[], []])
+                    names = [node.name for node in kind.body if isinstance(node, ast.FunctionDef)]
+                    self.assertEqual(len(names), len(set(names)), (file, kind.name))
+                    for node in kind.body:
+                        self.assertIsInstance(node, (ast.FunctionDef, ast.Assign, ast.Expr))
+
+    def test_decorators_and_names(self):
+        for file, kind, node in methods():
+            found = [ast.unparse(one) for one in node.decorator_list]
+            self.assertIn(found, [[], ["property"], ["staticmethod"], ["classmethod"]], (file, node.name))
+            self.assertTrue(node.name in DOUBLE or not node.name.startswith("__"), (file, node.name))
+            self.assertNotIn(node.name, METHODS, (file, node.name))
+            if found == ["property"]:
+                self.assertEqual(len(node.args.args), 1)
+
+    def test_names_of_methods_properties_and_attributes_differ(self):
+        plain = {node.name for _, _, node in methods() if not node.decorator_list}
+        others = {node.name for _, _, node in methods() if node.decorator_list}
+        stored = {node.attr for _, tree in trees() for node in ast.walk(tree)
+                  if isinstance(node, ast.Attribute) and isinstance(node.ctx, ast.Store)}
+        self.assertFalse(plain & others)
+        self.assertFalse(stored & (plain | others))
+        self.assertFalse(stored & METHODS)
+
+    def test_super_calls_plain_methods(self):
+        for file, tree in trees():
+            uses = [node for node in ast.walk(tree) if isinstance(node, ast.Name) and node.id == "super"]
+            found = []
+            for _, node in methods_in(tree):
+                if not node.decorator_list:
+                    for call in ast.walk(node):
+                        if isinstance(call, ast.Call) and ast.unparse(call.func).startswith("super()."):
+                            name = call.func.attr
+                            self.assertEqual(name, node.name, file)
+                            self.assertTrue(name == "__init__" or "__" not in name, (file, name))
+                            found.append(call.func.value.func)
+            self.assertEqual(sorted(map(id, uses)), sorted(map(id, found)), file)
+
+    def test_equality_and_length(self):
+        for file, kind, node in methods():
+            if node.name == "__eq__":
+                self.assertEqual(len(node.body), 1, (file, kind.name))
+                self.assertTrue(ast.unparse(node.body[0]).startswith(f"return isinstance(other, {kind.name}) and "))
+            if node.name == "__len__":
+                self.assertEqual(len(node.body), 1, (file, kind.name))
+                self.assertTrue(ast.unparse(node.body[0]).startswith("return len("))
+
+    def test_properties_change_nothing(self):
+        for file, kind, node in methods():
+            if [ast.unparse(one) for one in node.decorator_list] == ["property"]:
+                self.assertEqual([type(row) for row in node.body], [ast.Expr, ast.Return], (file, node.name))
 
 
 if __name__ == "__main__":

@@ -4,11 +4,14 @@ import unittest
 
 from accordions.clicks import after_clicks, first_hidden, steps
 from accordions.distances import distance
+from accordions.effects import effect_of, nth_start
 from accordions.layers import numbers_by_distance
+from accordions.menu import ForgetfulMenu, Menu
 from accordions.plans import around, group_of, is_plan
 from accordions.shortest import count_shortest, nth_shortest
 from accordions.states import count_states, is_state, nth_state, shown_sections, state_rank, visible_headers
 from accordions.tours import fewest_to_show, nth_tour
+from accordions.views import clicks_of, view_of
 from tests.examples import F, G, P, small_plans
 
 
@@ -70,6 +73,31 @@ class OverviewTest(unittest.TestCase):
         self.assertEqual(len(tour), fewest_to_show(P, F, [2, 3, 10]))
         seen = [section for state in steps(P, F, tour) for section in shown_sections(P, state)]
         self.assertLessEqual({2, 3, 10}, set(seen))
+
+    def test_what_a_click_list_does_from_all_states_at_once(self):
+        after = {section: dict(pairs) for section, pairs in effect_of(P, [7, 9])}
+        for index in range(count_states(P)):
+            state = nth_state(P, index)
+            if first_hidden(P, state, [7, 9]) is None:
+                self.assertEqual([after[section][state[section]] for section in (0, 1, 4, 7)],
+                                 [after_clicks(P, state, 7, 9)[section] for section in (0, 1, 4, 7)])
+            else:
+                self.assertTrue(state[0] == 7)
+        self.assertEqual(nth_start(P, [7, 9], 0), F)
+
+    def test_what_can_be_read_from_views_of_a_menu(self):
+        menu = Menu(P)
+        views = [view_of(P, menu.state)]
+        for section in (7, 9, 10, 1, 3, 4, 6):
+            menu.click(section)
+            views.append(view_of(P, menu.state))
+        self.assertEqual(clicks_of(P, views), menu.pressed)
+
+    def test_menus_that_are_clicked_one_by_one(self):
+        for kind, inside in ((Menu, 10), (ForgetfulMenu, 8)):
+            menu = kind(P)
+            self.assertEqual([menu.click(7, 9, 10), menu.click(1), menu.click(7)], [[True] * 3, [True], [True]])
+            self.assertEqual(menu.shown, [0, 7, inside])
 
 
 if __name__ == "__main__":
